@@ -1,0 +1,1 @@
+"""Partwise: tables that are cut into parts."""
