@@ -16,15 +16,17 @@ def random_schema(chooser, count, kinds=("number", "number", "word")):
     ])
 
 
-def random_condition(chooser, schema, count):
-    """A condition with that many atoms, in which parameters may occur."""
-    return Condition(schema, _Maker(chooser, schema).text(count))
+def random_condition(chooser, schema, count, numbers=NUMBERS, words=WORDS):
+    """A condition with that many atoms over these values, in which parameters may occur."""
+    return Condition(schema, _Maker(chooser, schema, numbers, words).text(count))
 
 
 class _Maker:
-    def __init__(self, chooser, schema):
+    def __init__(self, chooser, schema, numbers, words):
         self.chooser = chooser
         self.schema = schema
+        self.numbers = numbers
+        self.words = words
         self.parameters = []
         self.nots = 0
 
@@ -58,8 +60,8 @@ class _Maker:
 
     def constant(self, column):
         if column.kind == "number":
-            return str(self.chooser.choice(NUMBERS))
-        return "'" + self.chooser.choice(WORDS)
+            return str(self.chooser.choice(self.numbers))
+        return "'" + self.chooser.choice(self.words)
 
     def other(self, column):
         others = [other.name for other in self.schema.columns if other.kind == column.kind]

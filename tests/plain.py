@@ -6,6 +6,7 @@ they do in a condition.
 """
 
 import ast
+import functools
 import itertools
 import operator
 import re
@@ -33,6 +34,7 @@ def value_of(word):
     return word[1:] if word.startswith("'") else int(word)
 
 
+@functools.lru_cache(maxsize=1000)
 def split_text(text):
     """The atoms of a right text, and the text with each of them as a call `at(0)` .."""
     atoms = []
@@ -135,6 +137,21 @@ def allows(row, parameters, true, kept):
     return all(
         truth(condition, row, parameters) is True for condition in true
     ) and all(truth(condition, row, parameters) is not False for condition in kept)
+
+
+def can_differ(schema, condition, kept, domains):
+    """Whether some row with which none of kept is False does not make the condition True."""
+    columns = [
+        list(domains[column.kind]) + ([] if column.is_required else [None])
+        for column in schema.columns
+    ]
+    kinds = parameter_kinds([condition, *kept])
+    parameters = [list(domains[kinds[name]]) + [None] for name in sorted(kinds)]
+    return any(
+        allows(row, given, (), kept) and truth(condition, row, given) is not True
+        for row in itertools.product(*columns)
+        for given in itertools.product(*parameters)
+    )
 
 
 # Point 23.
