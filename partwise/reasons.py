@@ -1,0 +1,175 @@
+"""Reasons that no row is possible, and whether any value is one."""
+
+from partwise.assumptions import assumption_of, literal_of, opposite_of
+from partwise.facts import Facts
+from partwise.literals import literals_of, opposite
+from partwise.search import pick
+from partwise.unknowns import kinds_of, problem_of, wishes_of
+from partwise.walks import is_walk, walk_of
+
+
+def reason(schema, true=(), kept=()):
+    """A reason that no row is possible, None if one is."""
+    return _Refutation(schema, true, kept).tree()
+
+
+def is_reason(schema, true, kept, value):
+    """Whether any value is a reason that no row is possible."""
+    return _Examination(schema, true, kept).accepts(value)
+
+
+class _Refutation:
+    """The search for a reason: states are cut in two until none of them has a way on."""
+
+    def __init__(self, schema, true, kept):
+        self.problem = problem_of(schema, wishes_of(true, kept))
+        self.kinds = kinds_of(schema, [*true, *kept])
+        self.conditions = [*true, *kept]
+        self.first_kept = len(true)
+
+    def tree(self):
+        # The literals by which states were cut, the states on the other sides, and
+        # the trees of the first sides, as far as they are known.
+        cuts = []
+        state = self.problem.start()
+        while True:
+            at, choice = self._choice(state)
+            if choice is None:
+                return None
+            if choice[0] > 0:
+                cuts.append((choice[1], state.with_literal(opposite(choice[1])), None))
+                state = choice[2]
+                continue
+            tree = self._closed(state, at)
+            while cuts and cuts[-1][2] is not None:
+                literal, _, first = cuts.pop()
+                tree = ("split", assumption_of(literal, self.kinds), first, tree)
+            if not cuts:
+                return tree
+            literal, state, _ = cuts.pop()
+            cuts.append((literal, state, tree))
+
+    def _choice(self, state):
+        """The condition with the fewest ways to be met, and how to go on."""
+        best = (None, None)
+        for at, need in enumerate(self.problem.needs):
+            found = pick(need, state)
+            if found is not None and (best[1] is None or found[0] < best[1][0]):
+                best = (at, found)
+        return best
+
+    def _closed(self, state, at):
+        """The reason for a state in which a condition has no way to be met."""
+        facts = Facts(self.problem.ends, self.problem.required)
+        for literal in state.made:
+            facts = facts.with_literal(literal)
+        walks = []
+        for literal in literals_of(self.problem.needs[at]):
+            if self._fails(at, facts):
+                break
+            walk = self._walk(state, literal)
+            if walk is not None:
+                walks.append((literal, walk))
+                state = state.with_literal(opposite(literal))
+                facts = facts.with_literal(opposite(literal))
+        tree = ("fails", at)
+        for literal, walk in reversed(walks):
+            tree = ("split", assumption_of(literal, self.kinds), walk, tree)
+        return tree
+
+    def _fails(self, at, facts):
+        return facts.fails(self.conditions[at], at >= self.first_kept)
+
+    def _walk(self, state, literal):
+        """The reason that the literal does not hold in the state, None if there is no walk."""
+        names = literal[1:3] if literal[0] == "edge" else literal[1:2]
+        if literal[0] in ("null", "some") or any([state.place(name) is None for name in names]):
+            return None
+        fault = state.with_literal(literal).fault
+        if fault is None or fault[0] == "rests":
+            return None
+        return ("walk", tuple([assumption_of(step, self.kinds) for step in walk_of(fault, self.kinds)]))
+
+
+class _Examination:
+    """The walk through the tree of a value, which may be nested as deeply as it likes."""
+
+    def __init__(self, schema, true, kept):
+        self.problem = problem_of(schema, wishes_of(true, kept))
+        self.kinds = kinds_of(schema, [*true, *kept])
+        self.conditions = [*true, *kept]
+        self.first_kept = len(true)
+        # The assumptions above the tree that is looked at, and how often each one is made.
+        self.made = []
+        self.counts = {}
+
+    def accepts(self, value):
+        waiting = [(value, 0, None, Facts(self.problem.ends, self.problem.required))]
+        while waiting:
+            tree, depth, assumption, facts = waiting.pop()
+            self._return_to(depth)
+            if assumption is not None:
+                self.made.append(assumption)
+                self.counts[assumption] = self.counts.get(assumption, 0) + 1
+            if not isinstance(tree, tuple) or not tree or not isinstance(tree[0], str):
+                return False
+            if tree[0] == "split":
+                branches = self._branches(tree, facts)
+                waiting.extend(branches)
+                if not branches:
+                    return False
+            elif not self._closes(tree, facts):
+                return False
+        return True
+
+    def _return_to(self, depth):
+        while len(self.made) > depth:
+            assumption = self.made.pop()
+            self.counts[assumption] = self.counts[assumption] - 1
+
+    def _branches(self, tree, facts):
+        """The two trees of a split, with what stands above them; empty if it is wrong."""
+        if len(tree) != 4:
+            return []
+        assumption = tree[1]
+        literal = literal_of(assumption, self.kinds)
+        if literal is None or not _are_ready(literal, facts):
+            return []
+        depth = len(self.made)
+        return [
+            (tree[3], depth, opposite_of(assumption), facts.with_literal(opposite(literal))),
+            (tree[2], depth, assumption, facts.with_literal(literal)),
+        ]
+
+    def _closes(self, tree, facts):
+        """Whether the tree is right, and ends here."""
+        if len(tree) != 2:
+            return False
+        if tree[0] == "fails":
+            return self._fails(tree[1], facts)
+        return tree[0] == "walk" and self._leads_out(tree[1], facts)
+
+    def _fails(self, at, facts):
+        if isinstance(at, bool) or not isinstance(at, int) or not 0 <= at < len(self.conditions):
+            return False
+        return facts.fails(self.conditions[at], at >= self.first_kept)
+
+    def _leads_out(self, steps, facts):
+        if not isinstance(steps, tuple) or len(steps) < 2:
+            return False
+        literals = [literal_of(step, self.kinds) for step in steps]
+        if None in literals:
+            return False
+        last = len(steps) - 1
+        for at, step in enumerate(steps):
+            is_free = at in (0, last) and step[0] == "some" and step[1] in self.problem.required
+            if not is_free and self.counts.get(step, 0) == 0:
+                return False
+        return is_walk(literals, facts, self.kinds)
+
+
+def _are_ready(literal, facts):
+    """Whether all unknowns are some, for an assumption that needs this."""
+    if literal[0] in ("null", "some"):
+        return True
+    return facts.are_some(literal[1:3] if literal[0] == "edge" else literal[1:2])
