@@ -4,7 +4,6 @@ from partwise.errors import InvalidParameters, InvalidRow, InvalidText, OtherSch
 from partwise.formulas import formula_of, truth_of
 from partwise.grammar import PARAMETERS, read_text
 from partwise.places import place_of
-from partwise.texts import kind_of
 from partwise.words import is_number, is_word
 
 

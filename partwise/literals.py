@@ -20,6 +20,9 @@ ALL_RESTS = 2 ** 60 - 1
 # What may be asked of a tree, and what is then asked of the tree behind `not`.
 OPPOSITES = {"true": "false", "false": "true", "not false": "not true", "not true": "not false"}
 
+# The words that change places behind `not`.
+OTHERS = {"and": "or", "or": "and"}
+
 
 def opposite(literal):
     """What holds where the literal does not (for all but null: of values other than None)."""
@@ -45,13 +48,10 @@ def need_of(tree, asked, ends):
     if kind in ("and", "or"):
         is_same = asked in ("true", "not false")
         needs = tuple([need_of(branch, asked, ends) for branch in tree[1]])
-        return ((kind if is_same else OTHERS[kind]), needs)
+        return (kind if is_same else OTHERS[kind], needs)
     if kind == "null":
         return ("null" if asked in ("true", "not false") else "some", tree[1])
     return _need_of_values(tree, asked, ends)
-
-
-OTHERS = {"and": "or", "or": "and"}
 
 
 def _need_of_values(atom, asked, ends):

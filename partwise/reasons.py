@@ -3,29 +3,48 @@
 from partwise.assumptions import assumption_of, literal_of, opposite_of
 from partwise.facts import Facts
 from partwise.literals import literals_of, opposite
+from partwise.places import ends_of
 from partwise.search import pick
-from partwise.unknowns import kinds_of, problem_of, wishes_of
+from partwise.unknowns import kinds_of, problem_of, required_of, wishes_of
 from partwise.walks import is_walk, walk_of
 
 
 def reason(schema, true=(), kept=()):
     """A reason that no row is possible, None if one is."""
-    return _Refutation(schema, true, kept).tree()
+    problem = problem_of(schema, wishes_of(true, kept))
+    return Refutation(problem, Subject(schema, true, kept)).tree()
 
 
 def is_reason(schema, true, kept, value):
     """Whether any value is a reason that no row is possible."""
-    return _Examination(schema, true, kept).accepts(value)
+    return Examination(Subject(schema, true, kept)).accepts(value)
 
 
-class _Refutation:
-    """The search for a reason: states are cut in two until none of them has a way on."""
+class Subject:
+    """The conditions and the unknowns that a reason is about."""
 
     def __init__(self, schema, true, kept):
-        self.problem = problem_of(schema, wishes_of(true, kept))
-        self.kinds = kinds_of(schema, [*true, *kept])
         self.conditions = [*true, *kept]
         self.first_kept = len(true)
+        self.kinds = kinds_of(schema, self.conditions)
+        self.required = required_of(schema)
+
+    def facts(self):
+        """What holds without assumptions."""
+        ends = {name: ends_of(self.kinds[name]) for name in self.kinds}
+        return Facts(ends, self.required)
+
+    def fails(self, at, facts):
+        """Whether the condition with this index fails."""
+        return facts.fails(self.conditions[at], at >= self.first_kept)
+
+
+class Refutation:
+    """The search for a reason: states are cut in two until none of them has a way on."""
+
+    def __init__(self, problem, subject):
+        self.problem = problem
+        self.subject = subject
 
     def tree(self):
         # The literals by which states were cut, the states on the other sides, and
@@ -43,29 +62,35 @@ class _Refutation:
             tree = self._closed(state, at)
             while cuts and cuts[-1][2] is not None:
                 literal, _, first = cuts.pop()
-                tree = ("split", assumption_of(literal, self.kinds), first, tree)
+                tree = ("split", self._assumption(literal), first, tree)
             if not cuts:
                 return tree
             literal, state, _ = cuts.pop()
             cuts.append((literal, state, tree))
 
     def _choice(self, state):
-        """The condition with the fewest ways to be met, and how to go on."""
+        """The index of the condition with the fewest ways to be met, and how to go on."""
         best = (None, None)
         for at, need in enumerate(self.problem.needs):
             found = pick(need, state)
             if found is not None and (best[1] is None or found[0] < best[1][0]):
                 best = (at, found)
+                if found[0] == 0:
+                    break
         return best
 
     def _closed(self, state, at):
-        """The reason for a state in which a condition has no way to be met."""
-        facts = Facts(self.problem.ends, self.problem.required)
+        """The reason for a state in which a condition has no way to be met.
+
+        The state knows of all its literals together what a reason may only say of
+        each unknown, or pair of them, by itself. Walks make up the difference.
+        """
+        facts = self.subject.facts()
         for literal in state.made:
             facts = facts.with_literal(literal)
         walks = []
         for literal in literals_of(self.problem.needs[at]):
-            if self._fails(at, facts):
+            if self.subject.fails(at, facts):
                 break
             walk = self._walk(state, literal)
             if walk is not None:
@@ -73,12 +98,9 @@ class _Refutation:
                 state = state.with_literal(opposite(literal))
                 facts = facts.with_literal(opposite(literal))
         tree = ("fails", at)
-        for literal, walk in reversed(walks):
-            tree = ("split", assumption_of(literal, self.kinds), walk, tree)
+        for literal, walk in walks[::-1]:
+            tree = ("split", self._assumption(literal), walk, tree)
         return tree
-
-    def _fails(self, at, facts):
-        return facts.fails(self.conditions[at], at >= self.first_kept)
 
     def _walk(self, state, literal):
         """The reason that the literal does not hold in the state, None if there is no walk."""
@@ -88,23 +110,24 @@ class _Refutation:
         fault = state.with_literal(literal).fault
         if fault is None or fault[0] == "rests":
             return None
-        return ("walk", tuple([assumption_of(step, self.kinds) for step in walk_of(fault, self.kinds)]))
+        return ("walk", tuple([self._assumption(step) for step in walk_of(fault, self.subject.kinds)]))
+
+    def _assumption(self, literal):
+        return assumption_of(literal, self.subject.kinds)
 
 
-class _Examination:
+class Examination:
     """The walk through the tree of a value, which may be nested as deeply as it likes."""
 
-    def __init__(self, schema, true, kept):
-        self.problem = problem_of(schema, wishes_of(true, kept))
-        self.kinds = kinds_of(schema, [*true, *kept])
-        self.conditions = [*true, *kept]
-        self.first_kept = len(true)
+    def __init__(self, subject):
+        self.subject = subject
         # The assumptions above the tree that is looked at, and how often each one is made.
         self.made = []
         self.counts = {}
 
     def accepts(self, value):
-        waiting = [(value, 0, None, Facts(self.problem.ends, self.problem.required))]
+        """Whether the value is a reason."""
+        waiting = [(value, 0, None, self.subject.facts())]
         while waiting:
             tree, depth, assumption, facts = waiting.pop()
             self._return_to(depth)
@@ -132,7 +155,7 @@ class _Examination:
         if len(tree) != 4:
             return []
         assumption = tree[1]
-        literal = literal_of(assumption, self.kinds)
+        literal = literal_of(assumption, self.subject.kinds)
         if literal is None or not _are_ready(literal, facts):
             return []
         depth = len(self.made)
@@ -142,30 +165,31 @@ class _Examination:
         ]
 
     def _closes(self, tree, facts):
-        """Whether the tree is right, and ends here."""
+        """Whether the tree has no trees below it, and is right."""
         if len(tree) != 2:
             return False
         if tree[0] == "fails":
-            return self._fails(tree[1], facts)
+            return self._is_index(tree[1]) and self.subject.fails(tree[1], facts)
         return tree[0] == "walk" and self._leads_out(tree[1], facts)
 
-    def _fails(self, at, facts):
-        if isinstance(at, bool) or not isinstance(at, int) or not 0 <= at < len(self.conditions):
+    def _is_index(self, value):
+        if isinstance(value, bool) or not isinstance(value, int):
             return False
-        return facts.fails(self.conditions[at], at >= self.first_kept)
+        return 0 <= value < len(self.subject.conditions)
 
     def _leads_out(self, steps, facts):
+        """Whether any value is the steps of a walk."""
         if not isinstance(steps, tuple) or len(steps) < 2:
             return False
-        literals = [literal_of(step, self.kinds) for step in steps]
+        literals = [literal_of(step, self.subject.kinds) for step in steps]
         if None in literals:
             return False
         last = len(steps) - 1
         for at, step in enumerate(steps):
-            is_free = at in (0, last) and step[0] == "some" and step[1] in self.problem.required
+            is_free = at in (0, last) and step[0] == "some" and step[1] in self.subject.required
             if not is_free and self.counts.get(step, 0) == 0:
                 return False
-        return is_walk(literals, facts, self.kinds)
+        return is_walk(literals, facts, self.subject.kinds)
 
 
 def _are_ready(literal, facts):

@@ -34,7 +34,7 @@ def pick(need, state):
     """
     kind = need[0]
     if kind == "and":
-        return pick_of_all(need[1], state)
+        return _pick_of_all(need[1], state)
     if kind == "or":
         return _pick_of_any(need[1], state)
     if state.is_met(need):
@@ -45,7 +45,7 @@ def pick(need, state):
     return NO_WAY if other.fault is not None else (1, need, other)
 
 
-def pick_of_all(needs, state):
+def _pick_of_all(needs, state):
     """As pick, for the need with the fewest ways."""
     best = None
     for need in needs:
@@ -76,20 +76,20 @@ def least_places(problem, names):
 
     None if they cannot be met.
     """
-    return _Search(problem, names, False).best_places()
+    return Search(problem, names, False).best_places()
 
 
 def greatest_places(problem, names):
     """The greatest tuple of places of these unknowns that meets the needs, or None."""
     ends = {name: (-problem.ends[name][1], -problem.ends[name][0]) for name in problem.ends}
     needs = [mirrored(need) for need in problem.needs]
-    places = _Search(Problem(ends, problem.required, needs), names, True).best_places()
+    places = Search(Problem(ends, problem.required, needs), names, True).best_places()
     if places is None:
         return None
     return tuple([None if place is None else -place for place in places])
 
 
-class _Search:
+class Search:
     """The states that are still to be looked at, the best one first."""
 
     def __init__(self, problem, names, is_none_last):
@@ -112,23 +112,41 @@ class _Search:
 
     def _offer(self, state):
         """Puts a state into the queue, with what follows from it, unless it has no way on."""
-        choice = self._choice(state)
-        while choice is not None and choice[0] == 1:
-            state = choice[2]
-            choice = self._choice(state)
+        state, choice = self._settled(state)
+        if self.is_none_last and (choice is None or choice[0] > 0):
+            choice = self._choice_of_some(state) or choice
         if choice is None or choice[0] > 0:
             # Of equal states the newest one is the nearest to an end.
             self.count = self.count + 1
             heappush(self.queue, (self._rank(state), -self.count, state, choice))
 
-    def _choice(self, state):
-        found = pick_of_all(self.needs, state)
-        if self.is_none_last and (found is None or found[0] > 1):
-            # The least places take None where it is open, and here that is the worst.
-            for name in self.names:
-                if state.is_open(name):
-                    return (2, ("some", name), state.with_literal(("some", name)))
-        return found
+    def _settled(self, state):
+        """The state with the literals that are needed in any case, and how to go on."""
+        is_changed = True
+        while is_changed:
+            is_changed = False
+            best = None
+            for need in self.needs:
+                found = pick(need, state)
+                while found is not None and found[0] == 1:
+                    state = found[2]
+                    is_changed = True
+                    found = pick(need, state)
+                if found is not None and found[0] == 0:
+                    return state, found
+                if found is not None and (best is None or found[0] < best[0]):
+                    best = found
+        return state, best
+
+    def _choice_of_some(self, state):
+        """The choice whether an open unknown of the names is None; None if none is open.
+
+        The least places take None where it is open, and as the last value it is the worst.
+        """
+        for name in self.names:
+            if state.is_open(name):
+                return (2, ("some", name), state.with_literal(("some", name)))
+        return None
 
     def _rank(self, state):
         """What no places of the state are better than."""

@@ -35,7 +35,7 @@ def wishes_of(true, kept):
 
 def problem_of(schema, wishes):
     """The problem to find places with which each condition is as asked."""
-    kinds = kinds_of(schema, [condition for condition, _ in wishes])
+    kinds = kinds_of(schema, [wish[0] for wish in wishes])
     ends = {name: ends_of(kinds[name]) for name in kinds}
     needs = [need_of(condition.formula, asked, ends) for condition, asked in wishes]
     return Problem(ends, required_of(schema), needs)

@@ -29,7 +29,7 @@ def _way_to(link, start):
     while link is not None and (start is None or link[:2] != start[:2]):
         literals.append(link[2])
         link = link[3]
-    return list(reversed(literals))
+    return literals[::-1]
 
 
 def is_walk(literals, facts, kinds):
