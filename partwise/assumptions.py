@@ -3,13 +3,22 @@
 from partwise.limits import MAX_MODULUS
 from partwise.literals import mask_of
 from partwise.places import place_of, value_at
-from partwise.texts import kind_of
 from partwise.words import is_number, is_word
 
 # The length of the assumptions of each kind.
 LENGTHS = {"null": 2, "some": 2, "least": 3, "less": 3, "below": 4, "above": 4, "rests": 3}
 
 MAX_DIFFERENCE = 10 ** 40 - 1
+
+# The kinds of the opposites, but for rests.
+OPPOSITES = {
+    "null": "some",
+    "some": "null",
+    "least": "less",
+    "less": "least",
+    "below": "above",
+    "above": "below",
+}
 
 
 def assumption_of(literal, kinds):
@@ -81,13 +90,3 @@ def opposite_of(assumption):
     if kind == "rests":
         return (kind, name, tuple([rest for rest in range(MAX_MODULUS) if rest not in assumption[2]]))
     return (OPPOSITES[kind],) + assumption[1:]
-
-
-OPPOSITES = {
-    "null": "some",
-    "some": "null",
-    "least": "less",
-    "less": "least",
-    "below": "above",
-    "above": "below",
-}

@@ -1,12 +1,37 @@
 """What can be counted of the rules of the language, for the files of the package."""
 
 import ast
+import builtins
 import pathlib
+import re
 import unittest
 import warnings
 
 PACKAGE = pathlib.Path(__file__).resolve().parent.parent / "partwise"
 LIBRARY = ("heapq", "math", "itertools")
+
+# L17: names that stand nowhere, and words that stand in comments and docstrings only.
+BARRED_NAMES = """
+register mro elements open input law version_info with_traceback add_note attrgetter breakpoint
+builtins compile copyright credits delattr dir eval exec exit gc getattr globals hasattr help id
+importlib license locals methodcaller os quit setattr super vars sys
+""".split()
+BARRED_WORDS = """
+type typing typing_extensions enum Enum IntEnum StrEnum Flag IntFlag Generic Protocol ABC ABCMeta
+namedtuple NamedTuple TypedDict TYPE_CHECKING abstractmethod dataclass overload contextmanager
+""".split()
+
+# L8 and L25: what may be called.
+BUILTINS = """
+len range enumerate zip min max sum abs sorted reversed int str bool list tuple dict set isinstance
+any all divmod map iter next ord repr property staticmethod classmethod
+""".split()
+METHODS = """
+append clear copy count endswith extend find get index insert isalnum isalpha isdigit islower
+isspace isupper items join keys ljust lower lstrip partition pop remove replace reverse rfind rjust
+rpartition rsplit rstrip setdefault split splitlines startswith strip update upper values zfill
+bit_length
+""".split()
 
 
 def package_files():
@@ -21,6 +46,33 @@ def all_nodes():
         for path, text in package_files().items()
         for node in ast.walk(ast.parse(text))
     ]
+
+
+def bound_names(tree):
+    """The names of the functions, classes and values that a file defines."""
+    names = [node.name for node in tree.body if isinstance(node, (ast.FunctionDef, ast.ClassDef))]
+    for node in tree.body:
+        if isinstance(node, ast.Assign):
+            names += [target.id for target in node.targets]
+    return names
+
+
+def names_in(node):
+    if isinstance(node, (ast.FunctionDef, ast.ClassDef)):
+        return [node.name]
+    if isinstance(node, ast.Name):
+        return [node.id]
+    if isinstance(node, ast.Attribute):
+        return [node.attr]
+    return [node.arg] if isinstance(node, ast.arg) else []
+
+
+def text_without_docstrings(text):
+    tree = ast.parse(text)
+    for node in ast.walk(tree):
+        if isinstance(node, (ast.Module, ast.FunctionDef, ast.ClassDef)) and ast.get_docstring(node) is not None:
+            node.body[0].value.value = ""
+    return ast.unparse(tree)
 
 
 class RulesTest(unittest.TestCase):
@@ -54,6 +106,103 @@ class RulesTest(unittest.TestCase):
             if isinstance(node, ast.ImportFrom):
                 self.assertEqual(node.level, 0, path)
                 self.assertIn(node.module.split(".")[0], ("partwise",) + LIBRARY, path)
+
+    def test_imported_names_are_defined_there(self):
+        trees = {path.stem: ast.parse(text) for path, text in package_files().items()}
+        for file, tree in trees.items():
+            for node in tree.body:
+                if isinstance(node, ast.ImportFrom) and node.module.split(".")[0] == "partwise":
+                    bound = bound_names(trees[node.module.split(".")[1]])
+                    for alias in node.names:
+                        self.assertIn(alias.name, bound, file)
+                        self.assertIsNone(alias.asname, file)
+
+    def test_imports_are_used_and_not_circular(self):
+        below = {}
+        for path, text in package_files().items():
+            tree = ast.parse(text)
+            imports = [node for node in tree.body if isinstance(node, ast.ImportFrom)]
+            below[path.stem] = [node.module.split(".")[-1] for node in imports]
+            used = [node.id for node in ast.walk(tree) if isinstance(node, ast.Name)]
+            for name in [alias.name for node in imports for alias in node.names]:
+                self.assertIn(name, used, path)
+        while below:
+            free = [file for file in below if not any(other in below for other in below[file])]
+            self.assertNotEqual(free, [], below)
+            below = {file: below[file] for file in below if file not in free}
+
+    def test_names(self):
+        for path, node in all_nodes():
+            if isinstance(node, ast.ClassDef):
+                self.assertTrue(node.name[0].isalpha(), (path, node.name))
+            for name in names_in(node):
+                self.assertNotIn(name, BARRED_NAMES, path)
+                self.assertRegex(name, "^(_?[A-Za-z][A-Za-z0-9_]*|_|__[a-z]+__)$", path)
+
+    def test_words(self):
+        for path, text in package_files().items():
+            for barred in ("(type)", "Meta", "metaclass=", "_wall", "_WallAttr"):
+                self.assertNotIn(barred, text, path)
+            words = re.findall("[A-Za-z_]+", text_without_docstrings(text))
+            self.assertEqual([word for word in words if word in BARRED_WORDS], [], path)
+
+    def test_local_names(self):
+        for path, text in package_files().items():
+            tree = ast.parse(text)
+            taken = {alias.name for node in tree.body if isinstance(node, ast.ImportFrom) for alias in node.names}
+            taken |= {node.name for node in tree.body if isinstance(node, ast.ClassDef)} | set(dir(builtins))
+            for node in ast.walk(tree):
+                if isinstance(node, ast.arg):
+                    self.assertNotIn(node.arg, taken, path)
+                if isinstance(node, ast.Name) and isinstance(node.ctx, ast.Store):
+                    self.assertNotIn(node.id, taken - {"_"}, (path, node.lineno))
+
+    def test_statements(self):
+        barred = (
+            ast.Try, ast.Global, ast.Nonlocal, ast.AnnAssign, ast.AsyncFunctionDef, ast.GeneratorExp, ast.Yield,
+            ast.Set, ast.With, ast.Div, ast.Delete, ast.Match,
+        )
+        for path, node in all_nodes():
+            self.assertNotIsInstance(node, barred, (path, getattr(node, "lineno", 0)))
+            if isinstance(node, ast.Constant):
+                self.assertNotIsInstance(node.value, (float, complex), path)
+
+    def test_decorators(self):
+        for path, node in all_nodes():
+            if isinstance(node, (ast.FunctionDef, ast.ClassDef)):
+                names = [ast.unparse(decorator) for decorator in node.decorator_list]
+                self.assertIn(names, ([], ["property"], ["staticmethod"]), (path, node.name))
+
+    def test_is_compares_with_none_only(self):
+        for path, node in all_nodes():
+            if isinstance(node, ast.Compare) and any(isinstance(op, (ast.Is, ast.IsNot)) for op in node.ops):
+                for other in node.comparators:
+                    self.assertIsInstance(other, ast.Constant, (path, node.lineno))
+
+    def test_calls(self):
+        own = {node.name for _, node in all_nodes() if isinstance(node, ast.FunctionDef)}
+        for path, node in all_nodes():
+            if not isinstance(node, ast.Call):
+                continue
+            where = (path, node.lineno)
+            if isinstance(node.func, ast.Attribute):
+                self.assertIn(node.func.attr, own | set(METHODS), where)
+            elif node.func.id in dir(builtins):
+                self.assertIn(node.func.id, BUILTINS + ["TypeError"], where)
+            for argument in node.args:
+                if isinstance(argument, ast.Starred):
+                    self.assertIsInstance(argument.value, ast.Name, where)
+            # Asked for by a class with __getitem__.
+            if isinstance(node.func, ast.Name) and node.func.id == "reversed":
+                self.assertIsInstance(node.args[0], ast.Call, where)
+
+    def test_sets_are_asked_for_their_length_only(self):
+        for path, node in all_nodes():
+            for child in ast.iter_child_nodes(node):
+                is_set = isinstance(child, ast.Call) and ast.unparse(child.func) == "set"
+                if isinstance(child, ast.SetComp) or is_set:
+                    self.assertIsInstance(node, ast.Call, path)
+                    self.assertIn(ast.unparse(node.func), ("len", "sorted"), path)
 
     def test_no_warnings(self):
         with warnings.catch_warnings():
