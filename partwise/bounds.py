@@ -193,11 +193,8 @@ def _read_range(words):
 
 def _begin_range(low, high):
     """Whether a range begins with these entries; each one but the last is known to be right."""
-    if not high:
-        return _are_ends(low, (LAST,) * len(low))
-    # The greatest end that begins so is the best one.
-    more = FIRST if high[-1] == FIRST else LAST
-    return _are_ends(low, high + (more,) * (len(low) - len(high)))
+    # If any end goes on so, the greatest one does.
+    return _are_ends(low, high + (LAST,) * (len(low) - len(high)))
 
 
 def _read_values(words):

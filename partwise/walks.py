@@ -67,9 +67,8 @@ def _is_end(literal, place, passed, facts, kinds):
     if kind != "edge":
         return False
     name = literal[2]
+    # An unknown without a place was not passed before.
     place = _raised(name, place + literal[3], facts)
-    if place is None:
-        return False
     is_word = kinds[name] == "word"
     return any([
         earlier < place and (is_word or (place - earlier) % MAX_MODULUS == 0)

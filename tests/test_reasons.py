@@ -64,6 +64,8 @@ class FailsTest(Checks):
         self.refuse(["o = 1"], under)
         self.check(["a = a"], ("split", ("some", "o"), ("fails", 1), ("fails", 0)), False, ["o < o"])
         self.check(["o = o"], ("split", ("some", "o"), ("fails", 1), ("fails", 0)), True, ["o < o"])
+        self.refuse(["a = a"], ("split", ("some", "o"), ("fails", 1), ("fails", 1)), ["o < o"])
+        self.check(["o < o"], ("split", ("some", "o"), ("fails", 0), ("fails", 0)))
 
     def test_open_atoms(self):
         # Whatever b = 1 is by itself, the condition is not True.
@@ -104,9 +106,16 @@ class FailsTest(Checks):
         self.check(["a in ( 3 5 ) and a = 4"], split(4, split(5, ("fails", 0), ("fails", 0)), ("fails", 0)))
         self.check(["not a in ( 3 4 ) and a >= 3 and a < 5"], split(3, split(5, ("fails", 0), ("fails", 0)), (
             "fails", 0)))
+        self.check(["not a in ( 1 7 5 6 9 ) and a >= 5 and a < 8"], split(5, split(8, ("fails", 0), ("fails", 0)), (
+            "fails", 0)))
         self.check(["a rest 2 0 and a = 5"], split(5, split(6, ("fails", 0), ("fails", 0)), ("fails", 0)))
         self.check(["a rest 5 0 and a > 5 and a < 10"], split(6, split(10, ("fails", 0), ("fails", 0)), ("fails", 0)))
         self.refuse(["a rest 5 0 and a > 5 and a < 10"], split(5, split(10, ("fails", 0), ("fails", 0)), ("fails", 0)))
+        self.refuse(["a rest 5 0 and a > 5 and a < 11"], split(6, split(11, ("fails", 0), ("fails", 0)), ("fails", 0)))
+        self.check(["not a rest 2 1 and a = 5"], split(5, split(6, ("fails", 0), ("fails", 0)), ("fails", 0)))
+        self.check(["not a rest 4 3 and a = -5"], split(-5, split(-4, ("fails", 0), ("fails", 0)), ("fails", 0)))
+        self.refuse(["not a rest 4 2 and a = 5"], split(5, split(6, ("fails", 0), ("fails", 0)), ("fails", 0)))
+        self.refuse(["a rest 2 0 and a = 4"], split(4, split(5, ("fails", 0), ("fails", 0)), ("fails", 0)))
 
     def test_no_such_values(self):
         # Without a value between, the atom a >= 5 is open again, and a walk is needed.
@@ -115,6 +124,9 @@ class FailsTest(Checks):
             "walk", (("least", "a", 5), ("less", "a", 4))), ("fails", 0)), ("fails", 0)))
         self.refuse(true, ("split", ("least", "a", 5), ("split", ("less", "a", 4), ("fails", 0), ("fails", 0)), (
             "fails", 0)))
+        for text in ("a > 10", "a < 0", "a = 10", "a rest 5 0", "not a < 5"):
+            self.refuse([text, "a < a"], ("split", ("least", "a", 5), ("split", ("less", "a", 4), ("fails", 0), (
+                "fails", 1)), ("fails", 1)))
         # The rests still count then.
         self.check(["a >= 5 and a < 4 and a rest 2 0"], ("split", ("rests", "a", ODDS), (
             "split", ("least", "a", 5), ("split", ("less", "a", 4), ("fails", 0), ("fails", 0)), ("fails", 0)), (
@@ -135,6 +147,8 @@ class FailsTest(Checks):
         # Without an integer that is left, the atom is open.
         self.refuse(["a rest 2 0"], split(EVENS, split(ODDS), ("fails", 0)))
         self.refuse(["a rest 6 3"], split(EVENS, split((3, 9)), ("fails", 0)))
+        for text in ("not a rest 2 0", "a rest 2 1", "a = 5", "a in ( 4 5 )", "a <> 5"):
+            self.refuse([text, "a < a"], split(EVENS, split(ODDS, ("fails", 0), ("fails", 1)), ("fails", 1)))
         # Each rests above counts.
         true = ["a rest 2 0 and a rest 3 0 and not a rest 6 0"]
         self.check(true, split(EVENS, split(tuple(range(0, 60, 3)))))
@@ -158,6 +172,9 @@ class FailsTest(Checks):
         self.refuse(["a < b + 1 and b < a + 1 and a <> c"], split(0))
         # Where no difference is left, the atom is open.
         self.refuse(["a < b"], split(0, split(-1, ("fails", 0), ("fails", 0)), ("fails", 0)))
+        for text in ("a > b + 100", "a < b - 100", "a = b"):
+            self.refuse([text, "a < a"], split(-5, ("split", ("above", "a", "b", 5), ("fails", 0), ("fails", 1)), (
+                "fails", 1)))
         # least, less and rests do not count.
         self.refuse(["a < b and a > 5 and b < 5"], ("split", ("least", "a", 6), ("split", ("less", "b", 5), (
             "fails", 0), ("fails", 0)), ("fails", 0)))
@@ -264,7 +281,8 @@ class SplitTest(Checks):
             self.check_assumption(wrong, False)
 
     def test_other_assumptions(self):
-        for value in ANY_VALUES + [("equal", "a", 1), ("LEAST", "a", 1), ("", "a"), (None, "a"), (("null",), "a")]:
+        for value in ANY_VALUES + [("equal", "a", 1), ("LEAST", "a", 1), ("", "a"), (None, "a"), (("null",), "a"), (
+                ["null"], "a"), ({}, "a"), ([], "a", 1), ({}, "a", "b", 0), ("null", ["a"]), ("null", {})]:
             self.check_assumption(value, False)
 
     def test_of_words(self):
@@ -377,6 +395,11 @@ class WalkTest(Checks):
         self.check_walk([], (("some", "o"), ("less", "o", -TOP)), False)
         self.check_walk([], (), False)
 
+    def test_where_it_begins(self):
+        for first in (("less", "a", -TOP), ("rests", "a", EVENS), ("below", "a", "b", 0), ("above", "a", "b", 0), ("null", "a")):
+            made = [first, ("less", "a", -TOP)]
+            self.check_walk(made, tuple(made), False)
+
     def test_edges(self):
         made = [("least", "a", 5), ("below", "a", "b", 2), ("above", "c", "b", 3), ("less", "c", 7)]
         # a >= 5, b >= 3, c >= 7.
@@ -386,6 +409,9 @@ class WalkTest(Checks):
         self.check_walk(made, (made[0], made[1], made[3]), False)
         self.check_walk(made, tuple(made[:3]), False)
         self.check_walk(made, tuple(made[1:]), False)
+        # An edge leads on from the unknown that was reached.
+        made = [("least", "a", 5), ("below", "b", "c", 0), ("less", "c", 5)]
+        self.check_walk(made, tuple(made), False)
         # The other way around, an edge leads nowhere.
         made = [("least", "b", 5), ("below", "a", "b", 2), ("less", "a", -TOP)]
         self.check_walk(made, tuple(made), False)
@@ -406,8 +432,16 @@ class WalkTest(Checks):
         # All of them at once, and there must be a number.
         made = [("least", "a", 1), ("rests", "a", EVENS), ("rests", "a", (1, 8)), ("less", "a", 8)]
         self.check_walk(made, (made[0], made[3]))
-        made = [("least", "a", 1), ("rests", "a", EVENS), ("rests", "a", ODDS), ("less", "a", 1)]
-        self.check_walk(made, (made[0], made[3]), False)
+        nothing = [("rests", "a", EVENS), ("rests", "a", ODDS)]
+        made = [("least", "a", 1), ("less", "a", 1)]
+        self.check_walk(nothing + made, tuple(made), False)
+        made = [("least", "b", 1), ("below", "b", "a", 0), ("below", "a", "c", 0), ("less", "c", 1)]
+        self.check_walk(nothing + made, tuple(made), False)
+        made = [("below", "b", "a", 0), ("above", "b", "a", 59)]
+        self.check_walk(made, (("some", "b"),) + tuple(made))
+        self.check_walk(nothing + made, (("some", "b"),) + tuple(made), False)
+        made = [("below", "b", "c", 0), ("below", "c", "a", 0)]
+        self.check_walk(nothing + made, (("some", "b"),) + tuple(made), False)
 
     def test_rings(self):
         made = [("above", "b", "a", 14), ("above", "a", "b", 14)]
