@@ -60,7 +60,10 @@ class State:
         return name not in self.nulls and name not in self.low
 
     def is_met(self, literal):
-        """Whether the literal holds for the least places, and None where that is open."""
+        """Whether the literal holds for the least places, and None where that is open.
+
+        If it needs unknowns that are not None, they are some already.
+        """
         kind = literal[0]
         place = self.low.get(literal[1])
         if kind == "null":
@@ -75,8 +78,7 @@ class State:
             return place < literal[2]
         if kind == "rests":
             return literal[2] >> place % MAX_MODULUS & 1 == 1
-        other = self.low.get(literal[2])
-        return other is not None and other >= place + literal[3]
+        return self.low[literal[2]] >= place + literal[3]
 
     def assume(self, literal):
         """Adds a literal; its unknowns are assumed to be some before, unless it says so."""
@@ -84,7 +86,7 @@ class State:
         kind = literal[0]
         name = literal[1]
         if kind == "null":
-            self._set_null(name)
+            self.nulls[name] = True
         elif kind == "some":
             self._set_some(name)
         elif kind == "least":
@@ -102,12 +104,7 @@ class State:
             self.edges[name] = self.edges.get(name, ()) + (literal,)
             self._spread([name])
 
-    def _set_null(self, name):
-        self.nulls[name] = True
-
     def _set_some(self, name):
-        if name in self.low:
-            return
         low, high = self.ends[name]
         literal = ("some", name)
         self.bases[name] = (low, literal)

@@ -83,6 +83,8 @@ class RowsTest(Checks):
         self.check_ends(NUMBERS, "a < b and b < c", (-TOP, -TOP + 1, -TOP + 2), (TOP - 2, TOP - 1, TOP))
         self.check_ends(NUMBERS, f"a rest 60 39 and a > {TOP - 60}", (TOP - 1,) + (-TOP,) * 2, (TOP - 1, TOP, TOP))
         self.check_possible(NUMBERS, [f"a rest 60 39 and a > {TOP - 1}"], [], None)
+        self.check_possible(NUMBERS, [f"a > {TOP - 1} and a rest 60 39"], [], None)
+        self.check_ends(NUMBERS, f"a < {1 - TOP} and a rest 60 21", None, None)
         self.check_possible(NUMBERS, [f"a >= {TOP} and b >= a and c = b"], [], (TOP, TOP, TOP))
 
     def test_ends_of_the_words(self):
@@ -138,6 +140,10 @@ class RingsTest(Checks):
         self.check_ends(NUMBERS, ring + "a rest 2 0 and b rest 2 0 and c rest 2 1", (-TOP, -TOP + 2, -TOP + 3), (
             TOP - 4, TOP - 2, TOP - 1))
         self.check_ends(NUMBERS, "a = b + 1 and a rest 2 0 and b rest 2 0", None, None)
+        for name in "abc":
+            for text in ("a <= b and b <= c and c <= a", "a >= b and b >= c and c >= a"):
+                self.check_ends(NUMBERS, f"{text} and {name} rest 60 7", (-TOP + 47,) * 3, (TOP - 33,) * 3)
+                self.check_ends(NUMBERS, f"{name} rest 60 7 and {text} and a > 5", (7,) * 3, (TOP - 33,) * 3)
         self.check_ends(NUMBERS, "a <= b and b <= a + 1 and a rest 60 7 and b rest 60 9", None, None)
         self.check_ends(NUMBERS, "a <= b and b <= a + 2 and a rest 60 7 and b rest 60 9", (
             -TOP + 47, -TOP + 49, -TOP), (TOP - 33, TOP - 31, TOP))

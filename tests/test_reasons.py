@@ -570,7 +570,9 @@ class ReasonTest(unittest.TestCase):
             f"a <= b - {TOP} and b <= a + {TOP - 1}", f"a = b + {TOP} and b = c + {TOP} and c > -{TOP}",
             "a = b and a rest 60 7 and b rest 60 9", "a < b and b < a + 2 and a rest 2 0 and b rest 2 0",
             "a <= b and b <= a + 1 and a rest 60 7 and b rest 60 9", f"a rest 60 39 and a > {TOP - 1}",
-            "a < b and b < c and c < 3 and a > 0", "a in ( 1 9 ) and b in ( 20 40 ) and b = a + 12",
+            "a < b and b < a and a rest 4 1", "a < b and b < a and b rest 60 7 and a > 0", "a < b and b < c and c < a + 2 "
+            "and c rest 3 0", "b rest 5 0 and a < b and b < c and c <= a + 1 and a rest 4 3", "a < b and b < c and c < a and "
+            "a rest 4 1 and b rest 15 2 and c rest 6 5", "a < b and b < c and c < 3 and a > 0", "a in ( 1 9 ) and b in ( 20 40 ) and b = a + 12",
             "a < $1 and b > $1 and b < a + 2", "o = $1 and o <> $1",
             "o < o", "o is null and o = o", "a rest 4 1 and a rest 6 2", f"a > b + {TOP} and c > a + {TOP} and b > -{TOP}",
             "a <> b and b <> c and c <> a and a in ( 1 5 ) and b in ( 1 5 ) and c in ( 1 5 )",
