@@ -106,6 +106,7 @@ class Refutation:
         """The reason that the literal does not hold in the state, None if there is no walk."""
         names = literal[1:3] if literal[0] == "edge" else literal[1:2]
         if literal[0] in ("null", "some") or any([state.place(name) is None for name in names]):
+            # What has been assumed of its unknowns decides it without a walk.
             return None
         fault = state.with_literal(literal).fault
         if fault is None or fault[0] == "rests":
@@ -134,14 +135,14 @@ class Examination:
             if assumption is not None:
                 self.made.append(assumption)
                 self.counts[assumption] = self.counts.get(assumption, 0) + 1
-            if not isinstance(tree, tuple) or not tree or not isinstance(tree[0], str):
+            if not isinstance(tree, tuple):
                 return False
-            if tree[0] == "split":
+            if len(tree) == 4 and tree[0] == "split":
                 branches = self._branches(tree, facts)
                 waiting.extend(branches)
                 if not branches:
                     return False
-            elif not self._closes(tree, facts):
+            elif len(tree) != 2 or not self._closes(tree, facts):
                 return False
         return True
 
@@ -152,8 +153,6 @@ class Examination:
 
     def _branches(self, tree, facts):
         """The two trees of a split, with what stands above them; empty if it is wrong."""
-        if len(tree) != 4:
-            return []
         assumption = tree[1]
         literal = literal_of(assumption, self.subject.kinds)
         if literal is None or not _are_ready(literal, facts):
@@ -166,8 +165,6 @@ class Examination:
 
     def _closes(self, tree, facts):
         """Whether the tree has no trees below it, and is right."""
-        if len(tree) != 2:
-            return False
         if tree[0] == "fails":
             return self._is_index(tree[1]) and self.subject.fails(tree[1], facts)
         return tree[0] == "walk" and self._leads_out(tree[1], facts)

@@ -491,8 +491,10 @@ class WalkTest(Checks):
         ):
             self.check_walk(made, wrong, False)
         self.check_walk(made, tuple(made))
-        tree = ("split", made[0], ("split", made[1], ("walk", tuple(made), ()), ("fails", 0)), ("fails", 0))
-        self.refuse(["a < a"], tree)
+        for wrong in (("walk", tuple(made), ()), ("walks", tuple(made)), ("", tuple(made)), (None, tuple(made)), tuple(made), (
+                "walk", *made), (tuple(made), "walk"), ["walk", tuple(made)]):
+            tree = ("split", made[0], ("split", made[1], wrong, ("fails", 0)), ("fails", 0))
+            self.refuse(["a < a"], tree)
 
 
 class AnyValueTest(Checks):
@@ -592,6 +594,24 @@ class ReasonTest(unittest.TestCase):
         self.assertIsNone(self.check(NUMBERS, [], conditions(NUMBERS, ["o = 1", "o <> 1"])))
         self.assertIsNotNone(self.check(NUMBERS, conditions(NUMBERS, ["o is not null"]), conditions(NUMBERS, [
             "o = 1", "o <> 1"])))
+
+    def test_conditions_that_are_partly_refused(self):
+        ring = ["a < c and c < b"]
+        for text in (
+            "a < o or a > b", "o < a or a > b", "o = 5 or a > b", "o rest 2 0 or a > b", "o > $1 or a > b",
+            "not ( o is not null or a <= b )", "a > b or o is not null",
+        ):
+            self.assertIsNotNone(self.check(NUMBERS, conditions(NUMBERS, ["o is null", text] + ring)), text)
+        for text in ("a rest 2 1 or a > b", "a rest 4 1 or a = b", "not a rest 2 0 or not a <= b"):
+            self.assertIsNotNone(self.check(NUMBERS, conditions(NUMBERS, ["a rest 2 0", text] + ring)), text)
+
+    def test_rings_that_gain_now_and_then(self):
+        for modulus, remainder in [(2, 0), (2, 1), (3, 0), (3, 1), (3, 2), (4, 0), (4, 1), (4, 3), (60, 20), (60, 21), (60, 22)]:
+            for name in "ab":
+                text = f"a <= b and b < a and not {name} rest {modulus} {remainder}"
+                self.assertIsNotNone(self.check(NUMBERS, conditions(NUMBERS, [text])), text)
+                text = f"b < a and not a rest 5 2 and not {name} rest {modulus} {remainder} and a <= b + 2 and b > a - 1"
+                self.check(NUMBERS, conditions(NUMBERS, [text]))
 
     def test_nothing_to_find(self):
         self.assertIsNone(reason(NUMBERS))
