@@ -606,12 +606,21 @@ class ReasonTest(unittest.TestCase):
             self.assertIsNotNone(self.check(NUMBERS, conditions(NUMBERS, ["a rest 2 0", text] + ring)), text)
 
     def test_rings_that_gain_now_and_then(self):
-        for modulus, remainder in [(2, 0), (2, 1), (3, 0), (3, 1), (3, 2), (4, 0), (4, 1), (4, 3), (60, 20), (60, 21), (60, 22)]:
+        for modulus, remainder in [(2, 0), (2, 1), (3, 0), (3, 1), (3, 2), (4, 0), (4, 1), (4, 3), (4, 2), (60, 20), (60, 21)]:
             for name in "ab":
-                text = f"a <= b and b < a and not {name} rest {modulus} {remainder}"
+                text = f"not {name} rest {modulus} {remainder} and a <= b and b < a"
                 self.assertIsNotNone(self.check(NUMBERS, conditions(NUMBERS, [text])), text)
-                text = f"b < a and not a rest 5 2 and not {name} rest {modulus} {remainder} and a <= b + 2 and b > a - 1"
+                text = f"not a rest 5 0 and not {name} rest {modulus} {remainder} and b < a and a <= b + 2 and b > a - 1"
                 self.check(NUMBERS, conditions(NUMBERS, [text]))
+
+        for text in (
+            "not b rest 4 0 and not a rest 4 2 and not a rest 4 3 and b <= a - 3 and c <= b - 3 and a <= c - 3",
+            "not a rest 3 1 and not a rest 3 2 and not b rest 3 0 and c <= b - 3 and a <= c + 1 and b <= a - 2",
+            "not c rest 12 9 and not b rest 12 7 and not c rest 12 10 and a <= c - 1 and b <= a - 3 and c <= b + 1",
+            "not c rest 6 4 and not b rest 6 2 and not b rest 6 3 and b <= a - 3 and c <= b - 3 and a <= c - 2",
+            "not c rest 3 0 and not a rest 3 1 and not a rest 3 2 and a <= b - 1 and b <= c - 1 and c <= a - 2",
+        ):
+            self.assertIsNotNone(self.check(NUMBERS, conditions(NUMBERS, [text])), text)
 
     def test_nothing_to_find(self):
         self.assertIsNone(reason(NUMBERS))
