@@ -93,7 +93,7 @@ class Search:
     """The states that are still to be looked at, the best one first."""
 
     def __init__(self, problem, names, is_none_last):
-        self.names = names
+        self.wanted = names
         self.is_none_last = is_none_last
         self.needs = _flat(problem.needs)
         self.first = problem.start()
@@ -105,7 +105,7 @@ class Search:
         while self.queue:
             state, choice = heappop(self.queue)[2:]
             if choice is None:
-                return tuple([state.place(name) for name in self.names])
+                return tuple([state.place(name) for name in self.wanted])
             self._offer(state.with_literal(opposite(choice[1])))
             self._offer(choice[2])
         return None
@@ -143,7 +143,7 @@ class Search:
 
         The least places take None where it is open, and as the last value it is the worst.
         """
-        for name in self.names:
+        for name in self.wanted:
             if state.is_open(name):
                 return (2, ("some", name), state.with_literal(("some", name)))
         return None
@@ -151,7 +151,7 @@ class Search:
     def _rank(self, state):
         """What no places of the state are better than."""
         ranks = []
-        for name in self.names:
+        for name in self.wanted:
             place = state.place(name)
             if self.is_none_last and state.is_open(name):
                 place = self.first.ends[name][0]

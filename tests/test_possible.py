@@ -8,6 +8,7 @@ from partwise.columns import Column, Schema
 from partwise.conditions import Condition
 from partwise.errors import InvalidParameters, OtherSchema, UnknownColumn
 from partwise.possible import follows, greatest_key, least_key, possible
+from partwise.reasons import reason
 from tests import plain
 from tests.making import random_condition, random_schema
 from tests.samples import ANY_VALUES, Kept, raised
@@ -413,6 +414,48 @@ class SearchTest(unittest.TestCase):
             found.append(due)
         self.assertIn(True, found)
         self.assertIn(False, found)
+
+
+class ProofTest(unittest.TestCase):
+    """Over all numbers and words: nothing is less or greater, and there is a reason for it."""
+
+    def check_beyond(self, schema, true, kept, text):
+        more = true + [Condition(schema, text)]
+        self.assertIsNone(possible(schema, more, kept), text)
+        self.assertTrue(plain.Reasons(schema, more, kept).accepts(reason(schema, more, kept)), text)
+
+    def check(self, schema, true, kept):
+        row = possible(schema, true, kept)
+        if row is None:
+            return
+        self.assertTrue(schema.is_row(row))
+        equal = [Condition(schema, equality(name, value)) for name, value in zip(schema.names, row)]
+        self.assertEqual(possible(schema, true + equal, kept), row)
+        for name in schema.names:
+            for key, sign in [(least_key, "<"), (greatest_key, ">")]:
+                (value,) = key(schema, [name], true, kept)
+                self.assertIsNotNone(possible(schema, true + [Condition(schema, equality(name, value))], kept))
+                if value is not None:
+                    self.check_beyond(schema, true, kept, equality(name, value).replace("=", sign))
+                if (value is None) != (sign == "<"):
+                    self.check_beyond(schema, true, kept, f"{name} is " + ("null" if sign == "<" else "not null"))
+
+    def test_random_conditions(self):
+        chooser = random.Random(21)
+        for count in range(150):
+            schema = random_schema(chooser, 4)
+            numbers = [list(range(-4, 5)), [TOP, TOP - 1, -TOP, 0, 5, 1 - TOP], [100, 200, 300, -100]][count % 3]
+            true = [random_condition(chooser, schema, chooser.randint(1, 6), numbers) for _ in range(chooser.randint(1, 3))]
+            kept = [random_condition(chooser, schema, chooser.randint(1, 6), numbers) for _ in range(chooser.randint(0, 3))]
+            if raised(lambda: possible(schema, true, kept)) is None:
+                self.check(schema, true, kept)
+
+
+def equality(name, value):
+    """The text of the condition that a column has this value."""
+    if value is None:
+        return f"{name} is null"
+    return f"{name} = '{value}" if isinstance(value, str) else f"{name} = {value}"
 
 
 class LoadTest(unittest.TestCase):
