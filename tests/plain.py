@@ -44,7 +44,7 @@ def split_text(text):
         return f"at({len(atoms) - 1})"
 
     # A word such as `not` is the name of no column.
-    rest = re.sub(r"\b(not|and|or) ", lambda match: match[0].upper(), text)
+    rest = re.sub(r"(?<!\S)(not|and|or) ", lambda match: match[0].upper(), text)
     rest = ATOM.sub(cut, rest.replace("is NOT null", "is not null"))
     return atoms, ast.parse(rest.lower(), mode="eval").body
 

@@ -94,6 +94,7 @@ OF_WORDS = [
     ("w in ( 'a 'b )", "b", None, True),
     ("w in ( 'a 'b )", "ab", None, False),
     ("w is null", None, "a", True),
+    ("w = 'and or w = 'not and w <> 'or", "and", None, True),
     ("w = v", None, "a", None),
     ("w = w", "x", None, True),
 ]
