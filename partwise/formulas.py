@@ -61,7 +61,9 @@ def _read_atom(words, at):
             return ("null", name), at + 3
         return ("not", ("null", name)), at + 4
     if verb == "in":
-        end = words.index(")", at)
+        end = at + 3
+        while words[end] != ")":
+            end = end + 1
         places = [place_of(read_value(word)) for word in words[at + 3:end]]
         return ("within", name, gathered(places)), end + 1
     if verb == "rest":

@@ -80,7 +80,7 @@ def _after_verb(state, word):
 def _after_operand(columns, state, word):
     kind = state[1]
     if word in PARAMETERS:
-        return _after_parameter(state, PARAMETERS.index(word))
+        return _after_parameter(state, int(word[1:]) - 1)
     if word in columns:
         if columns[word] != kind:
             return None

@@ -36,7 +36,7 @@ def place_of(value):
     # Each word stands behind its own beginnings.
     place = len(value) - 1
     for letter, block in zip(value, BLOCKS):
-        place = place + LETTERS.index(letter) * block
+        place = place + LETTERS.find(letter) * block
     return place
 
 

@@ -67,6 +67,44 @@ def names_in(node):
     return [node.arg] if isinstance(node, ast.arg) else []
 
 
+def is_property(node):
+    return "property" in [ast.unparse(decorator) for decorator in node.decorator_list]
+
+
+def attribute_names(nodes):
+    """The names of the attributes that are assigned, and of the properties."""
+    names = {
+        node.attr for node in nodes if isinstance(node, ast.Attribute) and isinstance(node.ctx, ast.Store)
+    }
+    return names | {node.name for node in nodes if isinstance(node, ast.FunctionDef) and is_property(node)}
+
+
+def called_name(node):
+    return node.func.attr if isinstance(node.func, ast.Attribute) else getattr(node.func, "id", None)
+
+
+def run_by_operators(nodes):
+    """The functions that operators and properties run, by themselves or through others."""
+    functions = [node for node in nodes if isinstance(node, ast.FunctionDef)]
+    by_name = {}
+    for function in functions:
+        by_name.setdefault(function.name, []).append(function)
+    for node in nodes:
+        if isinstance(node, ast.ClassDef):
+            makers = [child for child in node.body if getattr(child, "name", None) == "__init__"]
+            by_name.setdefault(node.name, []).extend(makers)
+    other = ("__init__", "__iter__", "__call__", "__enter__", "__exit__")
+    waiting = [f for f in functions if is_property(f) or (f.name.startswith("__") and f.name not in other)]
+    found = []
+    while waiting:
+        function = waiting.pop()
+        if function not in found:
+            found.append(function)
+            calls = [node for node in ast.walk(function) if isinstance(node, ast.Call)]
+            waiting += [other for call in calls for other in by_name.get(called_name(call), [])]
+    return found
+
+
 def text_without_docstrings(text):
     tree = ast.parse(text)
     for node in ast.walk(tree):
@@ -195,6 +233,19 @@ class RulesTest(unittest.TestCase):
             # Asked for by a class with __getitem__.
             if isinstance(node.func, ast.Name) and node.func.id == "reversed":
                 self.assertIsInstance(node.args[0], ast.Call, where)
+
+    def test_no_attribute_is_called_in_what_operators_run(self):
+        nodes = [node for _, node in all_nodes()]
+        attributes = attribute_names(nodes)
+        self.assertIn("index", attributes)
+        self.assertIn("schema", attributes)
+        names = [function.name for function in run_by_operators(nodes)]
+        self.assertIn("place_of", names)
+        self.assertIn("_read_atom", names)
+        for function in run_by_operators(nodes):
+            for node in ast.walk(function):
+                if isinstance(node, ast.Call) and isinstance(node.func, ast.Attribute):
+                    self.assertNotIn(node.func.attr, attributes, (function.name, node.lineno))
 
     def test_sets_are_asked_for_their_length_only(self):
         for path, node in all_nodes():
