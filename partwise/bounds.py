@@ -2,6 +2,9 @@
 
 from partwise.errors import InvalidBound, InvalidText
 from partwise.limits import MAX_RANGE_COLUMNS, MAX_VALUES
+from partwise.literals import ALWAYS, NEVER
+from partwise.places import place_of
+from partwise.spans import compared, gathered
 from partwise.texts import is_modulus, is_remainder, kind_of, read_number, read_value, value_text
 from partwise.words import is_number, is_word
 
@@ -11,7 +14,12 @@ LAST = "+"
 
 
 class Bound:
-    """Some of the keys of a cut."""
+    """Some of the keys of a cut.
+
+    Each kind of bound says whether it fits a kind of cut and the kinds of its
+    columns. Each but Default has a tree, as in partwise.formulas, that is True for
+    the rows whose keys it holds.
+    """
 
     @staticmethod
     def read(text):
@@ -47,6 +55,18 @@ class Range(Bound):
         high = " ".join([_entry_text(entry) for entry in self._high])
         return f"range {low} to {high}"
 
+    def fits(self, cut_kind, kinds):
+        """Whether it bounds a part of a cut of this kind by columns of these kinds."""
+        if cut_kind != "range" or len(kinds) != len(self._low):
+            return False
+        entries = [*self._low, *self._high]
+        return all([_entry_kind(entry) in (None, kind) for entry, kind in zip(entries, kinds + kinds)])
+
+    def key_tree(self, columns):
+        """The tree that the values of the columns are a key of it."""
+        somes = tuple([("not", ("null", column)) for column in columns])
+        return ("and", somes + (_least_tree(columns, self._low), _less_tree(columns, self._high)))
+
     def __contains__(self, x):
         if not isinstance(x, tuple) or len(x) != len(self._low):
             return False
@@ -74,6 +94,21 @@ class Values(Bound):
         words = [value_text(value) for value in self._entries]
         return " ".join(["values"] + words)
 
+    def fits(self, cut_kind, kinds):
+        """Whether it bounds a part of a cut of this kind by columns of these kinds."""
+        return cut_kind == "values" and all([kind_of(value) in (None, kinds[0]) for value in self._entries])
+
+    def key_tree(self, columns):
+        """The tree that the values of the columns are a key of it."""
+        column = columns[0]
+        places = [place_of(value) for value in self._entries if value is not None]
+        trees = []
+        if None in self._entries:
+            trees.append(("null", column))
+        if places:
+            trees.append(("within", column, gathered(places)))
+        return ("or", tuple(trees))
+
     def __contains__(self, x):
         if not isinstance(x, tuple) or len(x) != 1 or not _is_value(x[0]):
             return False
@@ -98,6 +133,14 @@ class Rest(Bound):
     def text(self):
         return f"rest {self._modulus} {self._remainder}"
 
+    def fits(self, cut_kind, kinds):
+        """Whether it bounds a part of a cut of this kind by columns of these kinds."""
+        return cut_kind == "rest" and kinds[0] == "number"
+
+    def key_tree(self, columns):
+        """The tree that the values of the columns are a key of it."""
+        return ("rest", columns[0], self._modulus, self._remainder)
+
     def __contains__(self, x):
         if not isinstance(x, tuple) or len(x) != 1 or not is_number(x[0]):
             return False
@@ -114,8 +157,36 @@ class Default(Bound):
     def text(self):
         return "default"
 
+    def fits(self, cut_kind, kinds):
+        """A default part may be one of every cut."""
+        return True
+
     def __eq__(self, other):
         return isinstance(other, Default)
+
+
+def _least_tree(columns, entries):
+    """The tree that the values of the columns, none of them None, are at least these entries."""
+    if entries[0] in (FIRST, LAST):
+        return ALWAYS if entries[0] == FIRST else NEVER
+    column = columns[0]
+    place = place_of(entries[0])
+    if len(entries) == 1:
+        return ("within", column, compared(">=", place))
+    equal = ("and", (("within", column, compared("=", place)), _least_tree(columns[1:], entries[1:])))
+    return ("or", (("within", column, compared(">", place)), equal))
+
+
+def _less_tree(columns, entries):
+    """The tree that the values of the columns, none of them None, are less than these entries."""
+    if entries[0] in (FIRST, LAST):
+        return NEVER if entries[0] == FIRST else ALWAYS
+    column = columns[0]
+    less = ("within", column, compared("<", place_of(entries[0])))
+    if len(entries) == 1:
+        return less
+    equal = ("and", (("within", column, compared("=", place_of(entries[0]))), _less_tree(columns[1:], entries[1:])))
+    return ("or", (less, equal))
 
 
 def _is_value(value):

@@ -12,15 +12,18 @@ SIGNS = ("=", "<>", "<", "<=", ">", ">=")
 PARAMETERS = ("$1", "$2", "$3", "$4")
 
 
-def read_text(schema, text):
-    """The index of the first wrong word, None if there is none, and the parameters' kinds."""
+def read_text(schema, text, barred=()):
+    """The index of the first wrong word, None if there is none, and the parameters' kinds.
+
+    The barred words are wrong everywhere.
+    """
     if not isinstance(text, str):
         return 0, ()
     columns = {column.name: column.kind for column in schema.columns}
     words = text.split(" ")
     state = ("factor", None, 0, 0, 0, (None,) * MAX_PARAMETERS)
     for at, word in enumerate(words):
-        state = _after(columns, state, word)
+        state = None if word in barred else _after(columns, state, word)
         if state is None:
             return at, ()
     kinds = tuple([kind for kind in state[5] if kind is not None])

@@ -124,7 +124,7 @@ class Examination:
         self.subject = subject
         # The assumptions above the tree that is looked at, and how often each one is made.
         self.made = []
-        self.counts = {}
+        self.tallies = {}
 
     def accepts(self, value):
         """Whether the value is a reason."""
@@ -134,7 +134,7 @@ class Examination:
             self._return_to(depth)
             if assumption is not None:
                 self.made.append(assumption)
-                self.counts[assumption] = self.counts.get(assumption, 0) + 1
+                self.tallies[assumption] = self.tallies.get(assumption, 0) + 1
             if not isinstance(tree, tuple):
                 return False
             if len(tree) == 4 and tree[0] == "split":
@@ -149,7 +149,7 @@ class Examination:
     def _return_to(self, depth):
         while len(self.made) > depth:
             assumption = self.made.pop()
-            self.counts[assumption] = self.counts[assumption] - 1
+            self.tallies[assumption] = self.tallies[assumption] - 1
 
     def _branches(self, tree, facts):
         """The two trees of a split, with what stands above them; empty if it is wrong."""
@@ -184,7 +184,7 @@ class Examination:
         last = len(steps) - 1
         for at, step in enumerate(steps):
             is_free = at in (0, last) and step[0] == "some" and step[1] in self.subject.required
-            if not is_free and self.counts.get(step, 0) == 0:
+            if not is_free and self.tallies.get(step, 0) == 0:
                 return False
         return is_walk(literals, facts, self.subject.kinds)
 
