@@ -4,6 +4,52 @@ import importlib
 import inspect
 import unittest
 
+STORE_METHODS = {
+    "create": "(self, name, schema, cut=None)",
+    "create_part": "(self, name, parent, bound, cut=None)",
+    "drop": "(self, name)",
+    "schema_of": "(self, name)",
+    "cut_of": "(self, name)",
+    "bound_of": "(self, name)",
+    "parent_of": "(self, name)",
+    "parts_of": "(self, name)",
+    "leaves_of": "(self, name)",
+    "rows_of": "(self, name)",
+    "count_rows": "(self, name)",
+    "add_check": "(self, name, label, text)",
+    "drop_check": "(self, name, label)",
+    "checks_of": "(self, name)",
+    "add_key": "(self, name, *columns)",
+    "drop_key": "(self, name, *columns)",
+    "keys_of": "(self, name)",
+    "possible_row": "(self, name)",
+    "leaf_of": "(self, name, row)",
+    "add_rows": "(self, name, rows)",
+    "delete_rows": "(self, name, where='', parameters=())",
+    "change_rows": "(self, name, where='', parameters=(), **changes)",
+    "moves": "(self, name, where='', parameters=None, **changes)",
+    "ask": "(self, name, where='', parameters=(), *, columns=None, order=(), limit=None)",
+    "plan_for": "(self, name, where='', parameters=None, *, order=())",
+    "count_groups": "(self, name, where='', parameters=(), *, by=())",
+    "is_separate": "(self, name, by, where='', parameters=None)",
+    "extreme": "(self, name, column, where='', parameters=(), *, is_greatest=False)",
+    "join_rows": (
+        "(self, one, other, on, *, kind='inner', where='', other_where='', parameters=(), other_parameters=())"
+    ),
+    "pairs": "(self, one, other, on, *, where='', other_where='', parameters=None, other_parameters=None)",
+    "is_partwise": "(self, one, other, on, *, where='', other_where='', parameters=None, other_parameters=None)",
+    "attach": "(self, name, parent, bound)",
+    "detach": "(self, name)",
+    "split_part": "(self, name, pieces)",
+    "merge_parts": "(self, names, name, bound)",
+    "rebound": "(self, name, bound)",
+    "prepare": "(self, name, where='', *, order=(), limit=None)",
+    "undo": "(self)",
+    "redo": "(self)",
+    "in_work": "(self, action)",
+    "copied": "(self)",
+}
+
 # The file, the class, its constructor's arguments, its properties, its methods.
 CLASSES = [
     (
@@ -35,6 +81,11 @@ CLASSES = [
     ("bounds", "Values", "(*values)", ["text"], {}, ["__eq__", "__contains__"]),
     ("bounds", "Rest", "(modulus, remainder)", ["text"], {}, ["__eq__", "__contains__"]),
     ("bounds", "Default", "()", ["text"], {}, ["__eq__"]),
+    ("cuts", "Cut", "(kind, *columns)", ["kind", "columns", "text"], {}, ["__eq__"]),
+    ("store", "Store", "()", ["names", "tops", "looked", "steps"], STORE_METHODS, ["__eq__"]),
+    ("store", "GuardedStore", "(limit)", [], {"copied": "(self)"}, []),
+    ("store", "CountingStore", "()", ["counts"], {"copied": "(self)"}, []),
+    ("store", "GuardedCountingStore", "(limit)", ["counts"], {"copied": "(self)"}, []),
 ]
 
 # The file, the function, its arguments.
@@ -45,6 +96,11 @@ FUNCTIONS = [
     ("possible", "follows", "(condition, kept=())"),
     ("reasons", "reason", "(schema, true=(), kept=())"),
     ("reasons", "is_reason", "(schema, true, kept, value)"),
+    ("cuts", "overlap", "(schema, cut, one, other)"),
+    ("cuts", "gap", "(schema, cut, bounds)"),
+    ("statements", "run", "(store, text)"),
+    ("dumps", "dump", "(store)"),
+    ("dumps", "load", "(statements)"),
 ]
 
 
@@ -82,6 +138,27 @@ class InterfaceTest(unittest.TestCase):
                 self.assertEqual(str(inspect.signature(getattr(find(file, name), member))), methods[member])
             for member in operators:
                 self.assertTrue(inspect.isfunction(members[member]), member)
+
+    def test_stores_are_below_store(self):
+        store, guarded, counting = [find("store", name) for name in ("Store", "GuardedStore", "CountingStore")]
+        self.assertEqual(guarded.__bases__, (store,))
+        self.assertEqual(counting.__bases__, (store,))
+        self.assertTrue(issubclass(find("store", "GuardedCountingStore"), guarded))
+        self.assertTrue(issubclass(find("store", "GuardedCountingStore"), counting))
+
+    def test_plans_and_prepared_questions(self):
+        store = find("store", "Store")()
+        store.create("t", find("columns", "Schema")(find("columns", "Column")("a", "number")))
+        for value, properties, methods in [
+            (store.plan_for("t"), ["leaves", "whole", "runs"], {}),
+            (store.prepare("t"), ["plan"], {"is_stale": "()", "run": "(*parameters)", "renew": "()"}),
+        ]:
+            self.assertEqual(value.__class__.__module__, "partwise.store")
+            for member in properties:
+                self.assertIsInstance(vars(type(value))[member], property)
+            for member in methods:
+                self.assertIn(member, vars(type(value)))
+                self.assertEqual(str(inspect.signature(getattr(value, member))), methods[member])
 
     def test_bounds_are_below_bound(self):
         for name in ("Range", "Values", "Rest", "Default"):

@@ -14,7 +14,7 @@ LIBRARY = ("heapq", "math", "itertools")
 BARRED_NAMES = """
 register mro elements open input law version_info with_traceback add_note attrgetter breakpoint
 builtins compile copyright credits delattr dir eval exec exit gc getattr globals hasattr help id
-importlib license locals methodcaller os quit setattr super vars sys
+importlib license locals methodcaller os quit setattr vars sys
 """.split()
 BARRED_WORDS = """
 type typing typing_extensions enum Enum IntEnum StrEnum Flag IntFlag Generic Protocol ABC ABCMeta
@@ -24,7 +24,7 @@ namedtuple NamedTuple TypedDict TYPE_CHECKING abstractmethod dataclass overload 
 # L8 and L25: what may be called.
 BUILTINS = """
 len range enumerate zip min max sum abs sorted reversed int str bool list tuple dict set isinstance
-any all divmod map iter next ord repr property staticmethod classmethod
+any all divmod map iter next ord repr property staticmethod classmethod super
 """.split()
 METHODS = """
 append clear copy count endswith extend find get index insert isalnum isalpha isdigit islower
@@ -197,13 +197,75 @@ class RulesTest(unittest.TestCase):
 
     def test_statements(self):
         barred = (
-            ast.Try, ast.Global, ast.Nonlocal, ast.AnnAssign, ast.AsyncFunctionDef, ast.GeneratorExp, ast.Yield,
+            ast.Global, ast.Nonlocal, ast.AnnAssign, ast.AsyncFunctionDef, ast.GeneratorExp, ast.YieldFrom,
             ast.Set, ast.With, ast.Div, ast.Delete, ast.Match,
         )
         for path, node in all_nodes():
             self.assertNotIsInstance(node, barred, (path, getattr(node, "lineno", 0)))
             if isinstance(node, ast.Constant):
                 self.assertNotIsInstance(node.value, (float, complex), path)
+
+    def test_handlers_name_own_errors(self):
+        own = {node.name for _, node in all_nodes() if isinstance(node, ast.ClassDef)}
+        for path, node in all_nodes():
+            if isinstance(node, ast.ExceptHandler):
+                self.assertIsInstance(node.type, ast.Name, path)
+                self.assertIn(node.type.id, own, path)
+
+    def test_finally_assigns_only(self):
+        for path, node in all_nodes():
+            for statement in node.finalbody if isinstance(node, ast.Try) else []:
+                for child in ast.walk(statement):
+                    kinds = (
+                        ast.If, ast.Assign, ast.Compare, ast.Is, ast.Constant, ast.Tuple, ast.Name, ast.Attribute,
+                        ast.Load, ast.Store,
+                    )
+                    self.assertIsInstance(child, kinds, (path, statement.lineno))
+
+    def test_generators(self):
+        functions = [(path, node) for path, node in all_nodes() if isinstance(node, ast.FunctionDef)]
+        names = [node.name for _, node in functions]
+        for path, function in functions:
+            yields = [node for node in ast.walk(function) if isinstance(node, ast.Yield)]
+            statements = [node.value for node in ast.walk(function) if isinstance(node, ast.Expr)]
+            self.assertEqual([node for node in yields if node not in statements], [], path)
+            if yields:
+                self.assertEqual(names.count(function.name), 1, path)
+                self.assertNotIn(function.name, METHODS, path)
+
+    def test_super_calls_methods_only(self):
+        for path, text in package_files().items():
+            tree = ast.parse(text)
+            parents = {child: node for node in ast.walk(tree) for child in ast.iter_child_nodes(node)}
+            for node in ast.walk(tree):
+                if isinstance(node, ast.Name) and node.id == "super":
+                    call = parents[node]
+                    self.assertEqual(ast.unparse(call), "super()", path)
+                    self.assertIsInstance(parents[call], ast.Attribute, path)
+                    self.assertIsInstance(parents[parents[call]], ast.Call, path)
+
+    def test_no_name_is_a_method_and_an_attribute(self):
+        nodes = [node for _, node in all_nodes()]
+        attributes = attribute_names(nodes)
+        for node in nodes:
+            for child in node.body if isinstance(node, ast.ClassDef) else []:
+                if isinstance(child, ast.FunctionDef) and not is_property(child):
+                    self.assertNotIn(child.name, attributes)
+
+    def test_attributes_that_are_read_are_assigned(self):
+        nodes = [node for _, node in all_nodes()]
+        methods = {node.name for node in nodes if isinstance(node, ast.FunctionDef)}
+        known = attribute_names(nodes) | methods | set(METHODS)
+        for node in nodes:
+            if isinstance(node, ast.Attribute):
+                self.assertIn(node.attr, known)
+
+    def test_no_property_is_an_attribute_of_another_class(self):
+        nodes = [node for _, node in all_nodes()]
+        properties = {node.name for node in nodes if isinstance(node, ast.FunctionDef) and is_property(node)}
+        for node in nodes:
+            if isinstance(node, ast.Attribute) and isinstance(node.ctx, ast.Store):
+                self.assertNotIn(node.attr, properties)
 
     def test_decorators(self):
         for path, node in all_nodes():
