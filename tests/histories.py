@@ -355,7 +355,12 @@ class History:
         self.pair.call("add_check", name, label, text)
 
     def drop_check(self):
-        self.pair.call("drop_check", self.table(), self.chooser.choice(LABELS[1:] + [None, ["one"]]))
+        name = self.table(lambda table: set(table.checks) - {"box"})
+        table = self.found(name)
+        labels = [label for label in sorted(table.checks) if label != "box"] if table is not None else []
+        if not labels or self.some(1, 10):
+            labels = LABELS[1:] + [None, ["one"]]
+        self.pair.call("drop_check", name, self.chooser.choice(labels))
 
     def add_key(self):
         name = self.top()
