@@ -9,7 +9,7 @@ from partwise.forest import find_table, leaf_names, leaf_needs
 from partwise.matching import read_match, read_open_match
 from partwise.orders import ordered_rows, read_order, row_rank
 from partwise.places import value_at
-from partwise.plans import is_separate, matching_leaves, matching_scene, runs_of, whole_leaves
+from partwise.plans import are_separate, matching_leaves, matching_scene, runs_of, whole_leaves
 from partwise.scenes import Scene
 
 
@@ -79,7 +79,7 @@ def is_separate_in(tables, name, by, where, parameters):
     schema = find_table(tables, name).schema
     match = read_open_match(schema, where, parameters)
     check_columns(schema, by)
-    return is_separate(tables, matching_leaves(tables, name, match), match, by)
+    return are_separate(tables, matching_leaves(tables, name, match), match, by)
 
 
 def extreme_in(tables, name, column, where, parameters, is_greatest):

@@ -32,7 +32,7 @@ def add_rows_in(tables, name, rows, most):
             if key is not None:
                 taken[key] = True
         added.setdefault(leaf, []).append(row)
-    return _filled(tables, {leaf: [*tables[leaf].rows, *added[leaf]] for leaf in added}, most), len(rows)
+    return _filled(tables, {leaf: list(tables[leaf].rows) + added[leaf] for leaf in added}, most), len(rows)
 
 
 def _keys_of_rows(schema, columns, rows):

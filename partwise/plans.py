@@ -131,7 +131,7 @@ def _is_free(group, groups, behind):
     return not any([other != group and other[0] in behind[group[0]] for other in groups])
 
 
-def is_separate(tables, leaves, match, columns):
+def are_separate(tables, leaves, match, columns):
     """Whether no matching possible rows of two of the leaves agree in the columns."""
     for at, one in enumerate(leaves):
         for other in leaves[:at]:

@@ -586,5 +586,16 @@ class History:
         self.pair.call("possible_row", self.table())
 
 
+def grown(test, chooser, *actions):
+    """A pair with some tables and what these actions do with them, and the history of it."""
+    pair = Pair(test)
+    history = History(pair, chooser)
+    history.begin()
+    for _ in range(12):
+        for action in actions:
+            getattr(history, action)()
+    return pair, history
+
+
 def written(value):
     return f"'{value}" if isinstance(value, str) else str(value)

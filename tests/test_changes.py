@@ -1,15 +1,13 @@
 """Points 50 to 54: rows that are added, deleted, changed and moved."""
 
-import itertools
 import random
 import unittest
 
-from partwise.bounds import Default, Range
 from partwise.errors import (
     CheckFails, DuplicateKey, InvalidChange, InvalidParameters, InvalidRow, InvalidText, NoPart, UnknownColumn,
     UnknownTable,
 )
-from tests.histories import History, Pair
+from tests.histories import grown
 from tests.samples import ANY_VALUES, Kept
 from tests.stores import TOP, StoreTest, store_of
 
@@ -311,12 +309,7 @@ class MovesTest(StoreTest):
         chooser = random.Random(54)
         found = []
         for _ in range(12):
-            pair = Pair(self)
-            history = History(pair, chooser)
-            history.begin()
-            for _ in range(12):
-                history.create_part()
-                history.add_check()
+            pair, history = grown(self, chooser, "create_part", "add_check")
             for _ in range(25):
                 name = history.top()
                 schema = history.schema(name)
@@ -332,11 +325,7 @@ class RowsTest(unittest.TestCase):
     def test_random_rows(self):
         chooser = random.Random(50)
         for _ in range(6):
-            pair = Pair(self)
-            history = History(pair, chooser)
-            history.begin()
-            for _ in range(10):
-                history.create_part()
+            pair, history = grown(self, chooser, "create_part")
             history.add_key()
             for _ in range(60):
                 chooser.choice([history.add_rows, history.add_rows, history.delete, history.change, history.ask])()

@@ -1,13 +1,12 @@
 """Points 70 and 71: joins, and the pairs of leaves that can hold partners."""
 
-import itertools
 import random
 import unittest
 
 from partwise.errors import InvalidJoin, InvalidParameters, InvalidText, UnknownColumn, UnknownTable
-from tests.histories import History, Pair
+from tests.histories import grown
 from tests.samples import ANY_VALUES, Kept
-from tests.stores import TOP, StoreTest, store_of
+from tests.stores import StoreTest, store_of
 
 STORE = [
     "create t a:number b:number w:word by range a", "part p of t range 0 to 10", "part q of t range 10 to 20", "part r of t default",
@@ -183,13 +182,7 @@ class SearchTest(unittest.TestCase):
         chooser = random.Random(70)
         sizes = []
         for _ in range(14):
-            pair = Pair(self)
-            history = History(pair, chooser)
-            history.begin()
-            for _ in range(12):
-                history.create_part()
-                history.add_check()
-                history.add_rows()
+            pair, history = grown(self, chooser, "create_part", "add_check", "add_rows")
             for _ in range(15):
                 history.join()
                 history.pairs()

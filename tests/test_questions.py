@@ -5,7 +5,7 @@ import random
 import unittest
 
 from partwise.errors import InvalidLimit, InvalidParameters, InvalidText, UnknownColumn, UnknownTable
-from tests.histories import History, Pair
+from tests.histories import grown
 from tests.samples import ANY_VALUES, EqualToAll, Kept, check_equal
 from tests.stores import EXAMPLE, LAST, TOP, StoreTest, store_of
 
@@ -371,13 +371,7 @@ class SearchTest(unittest.TestCase):
     def test_random_questions(self):
         chooser = random.Random(60)
         for _ in range(20):
-            pair = Pair(self)
-            history = History(pair, chooser)
-            history.begin()
-            for _ in range(12):
-                history.create_part()
-                history.add_check()
-                history.add_rows()
+            pair, history = grown(self, chooser, "create_part", "add_check", "add_rows")
             for _ in range(12):
                 history.ask()
                 history.plan()

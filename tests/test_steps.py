@@ -4,7 +4,7 @@ import itertools
 import random
 import unittest
 
-from partwise.bounds import Default, Range, Values
+from partwise.bounds import Default, Range
 from partwise.columns import Column, Schema
 from partwise.cuts import Cut
 from partwise.errors import (

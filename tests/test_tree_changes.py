@@ -3,15 +3,15 @@
 import random
 import unittest
 
-from partwise.bounds import Bound, Default, Range, Rest, Values
+from partwise.bounds import Default, Range, Rest, Values
 from partwise.errors import (
     CheckFails, DuplicateKey, Gap, HasKeys, InDefault, InvalidBound, InvalidName, InvalidPieces, KeyTooSmall, NotCut, NotHeld,
     NotLeaf, NotPart, NotSiblings, NotTop, Outside, Overlap, OwnChecks, SchemaDiffers, TableExists, TooMany, UnknownTable,
 )
 from partwise.statements import run
-from tests.histories import History, Pair
+from tests.histories import grown
 from tests.samples import ANY_VALUES, RESERVED, Kept
-from tests.stores import EXAMPLE, LAST, TOP, StoreTest, bound, store_of
+from tests.stores import EXAMPLE, TOP, StoreTest, bound, store_of
 
 
 class ExampleTest(unittest.TestCase):
@@ -405,12 +405,7 @@ class SearchTest(unittest.TestCase):
         chooser = random.Random(80)
         seen = {}
         for _ in range(16):
-            pair = Pair(self)
-            history = History(pair, chooser)
-            history.begin()
-            for _ in range(14):
-                history.create_part()
-                history.add_rows()
+            pair, history = grown(self, chooser, "create_part", "add_rows")
             for _ in range(50):
                 kinds = [history.attach, history.detach, history.split, history.merge, history.rebound, history.create, history.add_rows]
                 chooser.choice(kinds)()

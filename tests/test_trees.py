@@ -12,8 +12,8 @@ from partwise.errors import (
     UnknownColumn, UnknownKey, UnknownTable,
 )
 from partwise.store import Store
-from tests.samples import ANY_VALUES, RESERVED, EqualToAll, raised
-from tests.stores import EXAMPLE, LAST, TOP, StoreTest, bound, store_of
+from tests.samples import ANY_VALUES, RESERVED, EqualToAll
+from tests.stores import EXAMPLE, LAST, TOP, StoreTest, store_of
 
 SCHEMA = Schema(Column("a", "number"), Column("b", "number", is_required=True), Column("w", "word"))
 
