@@ -28,8 +28,6 @@ def rows_in(tables, leaves):
 
 def leaves_in_default(tables, parent, name, bound):
     """The leaves of the default part of a table in which the bound of another part holds a possible row."""
-    if isinstance(bound, Default):
-        return []
     table = tables[parent]
     need = held_need(table.schema, table.cut, bound, [])
     defaults = [part for part in part_names(tables, parent) if isinstance(tables[part].bound, Default)]

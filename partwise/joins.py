@@ -1,7 +1,7 @@
 """Questions about the rows of two tables that agree in some columns."""
 
 from partwise.doubts import rows_in
-from partwise.errors import InvalidJoin, UnknownColumn
+from partwise.errors import InvalidJoin
 from partwise.forest import find_table, leaf_needs
 from partwise.matching import read_match, read_open_match
 from partwise.orders import sorted_rows
@@ -109,10 +109,7 @@ def are_partwise(found):
 def _check_on(schemas, on):
     if not on:
         raise InvalidJoin()
-    for columns in on:
-        for schema, column in zip(schemas, columns):
-            if column not in schema.names:
-                raise UnknownColumn(column)
-        one, other = columns
+    for one, other in on:
+        # A column that is not there is an error of the schema.
         if schemas[0][one].kind != schemas[1][other].kind:
             raise InvalidJoin()

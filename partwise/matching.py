@@ -6,7 +6,7 @@ from partwise.formulas import truth_of
 from partwise.grammar import PARAMETERS
 from partwise.holding import ends_of_columns
 from partwise.literals import ALWAYS, need_of
-from partwise.places import ends_of, place_of
+from partwise.places import place_of
 
 
 class Match:
@@ -21,10 +21,7 @@ class Match:
 
     def need(self, asked):
         """What a row needs for the condition to be as asked, as need_of takes it."""
-        ends = ends_of_columns(self.shape)
-        for name, kind in zip(PARAMETERS, self.kinds):
-            ends[name] = ends_of(kind)
-        return need_of(self.where_tree, asked, ends)
+        return need_of(self.where_tree, asked, ends_of_columns(self.shape))
 
     def is_joint(self):
         """Whether what matches depends on values of parameters that are not given."""

@@ -87,7 +87,7 @@ def _unkey(store, words):
 
 
 def _insert(store, words):
-    check_form(len(words) > 1)
+    check_form(len(words) > 0)
     name = read_name(words[0])
     rows = [read_row(group) for group in groups_of(words[1:])]
     return _result(store.add_rows(name, rows))

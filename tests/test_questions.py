@@ -232,6 +232,15 @@ class PlanTest(StoreTest):
         self.check(store, {}, "pqrs", "pqrs", [("p",), ("q",), ("r",), ("s",)])
         self.check(store, {"order": ["a", ("w", "down")]}, "pqrs", "pqrs", [("p", "q", "r"), ("s",)])
 
+    def test_columns_of_an_order_belong_together(self):
+        # By a, then b down: (1, 1), (2, 5) and behind them (2, 3).
+        store = store_of("create t a:number! b:number! w:word! by values w", "part p of t values 'p", "part q of t values 'q",
+                         "check p c a = 1 and b = 1 or a = 2 and b = 5", "check q c a = 2 and b = 3")
+        self.check(store, {"order": ["a", ("b", "down")]}, "pq", "pq", [("p",), ("q",)])
+        self.check(store, {"order": [("a", "down"), "b"]}, "pq", "pq", [("q",), ("p",)])
+        self.check(store, {"order": ["a", "b"]}, "pq", "pq", [("p", "q")])
+        self.check(store, {"order": [("a", "down"), ("b", "down")]}, "pq", "pq", [("p", "q")])
+
     def test_equality(self):
         store = store_of(*EXAMPLE)
         plans = [store.plan_for("t"), store.plan_for("t", order=["w"]), store.plan_for("t", "a > 0"), store.plan_for("lo")]

@@ -262,6 +262,11 @@ class EqualTest(StoreTest):
             check_equal(self, store_of(*base, one), store_of(*base, two), False)
             check_equal(self, store_of(*base, one), store_of(*base, one), True)
 
+    def test_parents_count(self):
+        base = ["create t a:number by range a", "create u a:number by range a"]
+        check_equal(self, store_of(*base, "part p of t default"), store_of(*base, "part p of u default"), False)
+        check_equal(self, store_of(*base, "part p of t default"), store_of(*base, "create p a:number"), False)
+
     def test_what_does_not_count(self):
         one = store_of("create t a:number w:word", "create u b:number", "check t c a > 0", "check t d a > 1", "insert t 5 'x / 6 'y / 5 'x")
         other = store_of("create u b:number", "create t a:number w:word", "check t d a > 1", "check t c a > 0", "insert t 6 'y", "insert t 5 'x / 5 'x",

@@ -256,6 +256,15 @@ class SplitTest(StoreTest):
         store.drop("xa")
         self.assertEqual(store.split_part("p", [("z", Range((5,), (6,)))] + two), 0)
 
+    def test_six_parts(self):
+        store = store_of(*self.base, "part q of t range 10 to 20", "part r of t range 20 to 30", "part d of t default")
+        three = [("x", Range((0,), (2,))), ("y", Range((2,), (5,))), ("z", Range((5,), (10,)))]
+        self.assertEqual(store.split_part("p", three), 4)
+        self.assertEqual(len(store.parts_of("t")), 6)
+        two = [("v", Range((5,), (7,))), ("w", Range((7,), (10,)))]
+        self.refuse(store, lambda: store.split_part("z", two), TooMany, limit=6)
+        self.assertEqual(store.split_part("z", [("w", Range((5,), (10,)))]), 2)
+
     def test_default_parts(self):
         store = store_of("create t a:number by values a", "part p of t values 1 2", "part d of t default", "insert t null / 5 / 7 / 1")
         self.refuse(store, lambda: store.split_part("d", [("x", Values(None, 5)), ("y", Default()), ("z", Default())]), Overlap, part="z")
