@@ -1,9 +1,7 @@
 """Rows that are added, deleted and changed."""
 
 from partwise.doubts import check_uniques, rows_in
-from partwise.errors import (
-    CheckFails, DuplicateKey, InvalidChange, InvalidRow, LeafFull, NoPart, UnknownColumn,
-)
+from partwise.errors import CheckFails, DuplicateKey, InvalidChange, InvalidRow, LeafFull, NoPart
 from partwise.forest import failing_check, find_table, leaf_for, leaf_names, leaf_needs, replaced, rows_below, top_of
 from partwise.matching import read_match, read_open_match
 from partwise.orders import sorted_rows
@@ -89,12 +87,11 @@ def change_rows_in(tables, name, where, parameters, changes, most):
 
 
 def _check_changes(schema, changes):
-    for column in changes:
-        if column not in schema.names:
-            raise UnknownColumn(column)
-        value = changes[column]
-        if not schema[column].is_value(value) and not (schema[column].kind == "number" and _is_addition(value)):
-            raise InvalidChange(column)
+    for name in changes:
+        # A column that is not there is an error of the schema.
+        column = schema[name]
+        if not column.is_value(changes[name]) and not (column.kind == "number" and _is_addition(changes[name])):
+            raise InvalidChange(name)
 
 
 def _is_addition(value):

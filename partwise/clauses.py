@@ -53,8 +53,8 @@ def read_one_name(words):
 
 def read_field(word):
     """A column as it is written in a statement."""
-    name, colon, kind = word.partition(":")
-    check_form(colon == ":" and kind in FIELD_KINDS)
+    name, _, kind = word.partition(":")
+    check_form(kind in FIELD_KINDS)
     return Column(read_name(name), FIELD_KINDS[kind], is_required=kind.endswith("!"))
 
 

@@ -248,7 +248,7 @@ class GrammarTest(StoreTest):
         "ask t columns a w order -w a limit 3 where a > 5", "ask t", "ask t order a", "ask t columns w limit 0",
         "count t by w a where a > 1", "count t", "count t by a", "least t a where w is null", "least t w", "greatest t w",
         "greatest t a where a < 12", "looked", "undo", "redo",
-        "attach u to t range 100 to 200", "attach u to t range 100 'a to 200 -", "detach hi",
+        "attach u to t range 100 to 200", "attach u to t default", "attach u to t range 100 'a to 200 -", "detach hi",
         "split lo into la range 0 to 5 / lb range 5 to 10", "split hy into n default", "merge lo hx into n range 0 to 10",
         "merge hx hy into hx default", "rebound lo range 0 to 9", "rebound hx values null 'x 'y",
     ]
