@@ -84,7 +84,7 @@ def _joined(kind, row, partners, width):
 def join_rows_in(tables, names, on, kind, wheres, parameters):
     """The rows, and the leaves that are looked at."""
     schemas = [find_table(tables, name).schema for name in names]
-    if not isinstance(kind, str) or kind not in KINDS:
+    if kind not in KINDS:
         raise InvalidJoin()
     _check_on(schemas, on)
     matches = [read_match(schema, where, given) for schema, where, given in zip(schemas, wheres, parameters)]

@@ -288,7 +288,8 @@ class GrammarTest(StoreTest):
     def test_any_values(self):
         store = store_of(*EXAMPLE)
         for value in ANY_VALUES + [["undo"], ("ask t",), "Undo", "undo ", " undo", "ask  t", "undo\n", "asks t", "select t", "rows_of t",
-                                   "ask", "create", "merge into x default", "split lo into", "insert t /", "insert t 1 'x /"]:
+                                   "ask", "create", "merge into x default", "split lo into", "insert t /", "insert t 1 'x /",
+                                   "update t set a 5 a 6", "update t set w 'x a 5 w add 6", "update t set a add 5 a add 6"]:
             self.refuse(store, lambda: run(store, value), InvalidStatement)
             self.refuse(store, lambda: run(store=store, text=value), InvalidStatement)
 

@@ -401,6 +401,18 @@ class ReboundTest(StoreTest):
         ]:
             self.refuse(store, lambda: store.rebound(*arguments), error, **fields)
 
+    def test_bounds_that_do_not_fit(self):
+        # Without other parts, nothing but the cut is there to compare with.
+        store = store_of("create t a:number by range a", "part p of t default", "create u a:number")
+        for wrong in (Rest(2, 0), Values(5), Range((1, 2), (3, 4)), Range(("a",), ("b",))):
+            self.refuse(store, lambda: store.rebound("p", wrong), InvalidBound)
+            self.refuse(store, lambda: store.split_part("p", [("q", wrong)]), InvalidBound)
+            self.refuse(store, lambda: store.merge_parts(["p"], "q", wrong), InvalidBound)
+            store.drop("p")
+            self.refuse(store, lambda: store.create_part("p", "t", wrong), InvalidBound)
+            self.refuse(store, lambda: store.attach("u", "t", wrong), InvalidBound)
+            store.undo()
+
     def test_the_first_part_that_overlaps(self):
         store = store_of("create t a:number by range a", "part b of t range 0 to 5", "part a of t range 5 to 9", "part c of t range 9 to 12")
         self.refuse(store, lambda: store.rebound("c", Range((2,), (12,))), Overlap, part="a")
